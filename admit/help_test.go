@@ -1,0 +1,266 @@
+package admit_test
+
+import (
+	"fmt"
+	"slices"
+	"strconv"
+	"strings"
+	"testing"
+
+	"doorkeeper/admit"
+	"doorkeeper/api"
+	"doorkeeper/tree"
+)
+
+const (
+	most  = 1 << 40
+	great = 1<<63 - 1
+	least = -1 << 63
+)
+
+func v(cpu, mem, pods int) api.Vec { return api.Vec{Cpu: cpu, Mem: mem, Pods: pods} }
+func same(n int) api.Vec           { return v(n, n, n) }
+
+// row has the three numbers of an amount; the resource of the number k is at k.
+func row(a api.Vec) [3]int  { return [3]int{a.Cpu, a.Mem, a.Pods} }
+func back(r [3]int) api.Vec { return v(r[0], r[1], r[2]) }
+
+// with is a with another number of the resource k.
+func with(a api.Vec, k, n int) api.Vec {
+	r := row(a)
+	r[k] = n
+	return back(r)
+}
+
+// more is a with so many times b beside it.
+func more(a, b api.Vec, times int) api.Vec {
+	return v(a.Cpu+b.Cpu*times, a.Mem+b.Mem*times, a.Pods+b.Pods*times)
+}
+
+// within asks whether a is at most b, resource by resource.
+func within(a, b api.Vec) bool {
+	for k, n := range row(a) {
+		if n > row(b)[k] {
+			return false
+		}
+	}
+	return true
+}
+
+func may(a api.Vec) bool { return within(api.Vec{}, a) && within(a, same(most)) }
+
+// it has a Ver that tells it from others.
+func it(name, parent string, own, sub, limit api.Vec) api.Item {
+	return api.Item{Name: name, Parent: parent, Own: own, Sub: sub, Limit: limit, Ver: len(name) + len(parent)*7 + 100}
+}
+
+// amount reads three numbers with commas between, or one, which all three are.
+func amount(s string) api.Vec {
+	var r [3]int
+	for k, word := range strings.Split(s, ",") {
+		n, _ := strconv.Atoi(word)
+		if k == 0 {
+			r = row(same(n))
+		}
+		r[k] = n
+	}
+	return back(r)
+}
+
+// live reads items: a name, behind a < its Parent, if that is not the root, behind a = what is in use by itself, if that is
+// not 0, and behind a / what is left of its Limit, if that is not 5. Sub and Limit are as they should be then. They stand by
+// rising names.
+func live(s string) []api.Item {
+	var l []api.Item
+	for _, word := range strings.Fields(s) {
+		word, left, is := strings.Cut(word, "/")
+		if !is {
+			left = "5"
+		}
+		word, used, _ := strings.Cut(word, "=")
+		name, parent, _ := strings.Cut(word, "<")
+		l = append(l, it(name, parent, amount(used), api.Vec{}, amount(left)))
+	}
+	return roomed(rising(l))
+}
+
+// rising is l by rising names.
+func rising(l []api.Item) []api.Item {
+	return slices.SortedStableFunc(slices.Values(l), func(a, b api.Item) int { return strings.Compare(a.Name, b.Name) })
+}
+
+// summed is l with Sub as it should be: what each uses by itself is in use at all above it.
+func summed(l []api.Item) []api.Item {
+	all := slices.Clone(l)
+	for i := range all {
+		all[i].Sub = api.Vec{}
+	}
+	for _, x := range l {
+		for _, name := range above(l, x.Name) {
+			i := place(l, name)
+			all[i].Sub = more(all[i].Sub, x.Own, 1)
+		}
+	}
+	return all
+}
+
+// roomed is l with Sub as it should be, and Limits that are above it by what they were before.
+func roomed(l []api.Item) []api.Item {
+	all := summed(l)
+	for i, x := range all {
+		all[i].Limit = more(x.Limit, x.Sub, 1)
+	}
+	return all
+}
+
+// number is a name of three digits, so that they rise as the numbers do.
+func number(i int) string {
+	s := strconv.Itoa(i)
+	return "n" + strings.Repeat("0", max(3-len(s), 0)) + s
+}
+
+// chain is n items, each below the one ahead of it, each of which uses 1 by itself, and has 5 left.
+func chain(n int) []api.Item {
+	var l []api.Item
+	for i := range n {
+		l = append(l, it(number(i), number(i-1), same(1), same(n-i), same(n-i+5)))
+	}
+	if n > 0 {
+		l[0].Parent = ""
+	}
+	return l
+}
+
+// star is n items, all but the first below that.
+func star(n int) []api.Item {
+	l := chain(n)
+	for i := range n {
+		if i > 0 {
+			l[i] = it(number(i), number(0), same(1), same(1), same(6))
+		}
+	}
+	return l
+}
+
+// names are all names of l.
+func names(l []api.Item) []string {
+	var all []string
+	for _, x := range l {
+		all = append(all, x.Name)
+	}
+	return all
+}
+
+// altered is l with something done to the item of a name.
+func altered(l []api.Item, name string, do func(x *api.Item)) []api.Item {
+	all := slices.Clone(l)
+	do(&all[place(all, name)])
+	return all
+}
+
+// place looks at one after the other.
+func place(l []api.Item, name string) int {
+	return slices.IndexFunc(l, func(x api.Item) bool { return x.Name == name })
+}
+
+// above walks from an item up to the root.
+func above(l []api.Item, name string) []string {
+	var names []string
+	for i := place(l, name); i >= 0; i = place(l, l[i].Parent) {
+		names = append(names, l[i].Name)
+	}
+	return names
+}
+
+// slowly tells in another, slower, way what Admit and Release do: of the one item so many times a is more in use, all that
+// is in use is reckoned anew, and then all of the tree is looked at.
+func slowly(l []api.Item, name string, a api.Vec, times int) ([]api.Item, api.Errno) {
+	if !may(a) {
+		return nil, api.ErrArg
+	}
+	if place(l, name) < 0 {
+		return nil, api.ErrNone
+	}
+	all := summed(altered(l, name, func(x *api.Item) { x.Own = more(x.Own, a, times) }))
+	for _, x := range all {
+		if !within(api.Vec{}, x.Own) {
+			return nil, api.ErrArg
+		}
+		if !within(x.Sub, x.Limit) {
+			return nil, api.ErrRoom
+		}
+	}
+	return all, api.OK
+}
+
+// short is enough of a list to know it.
+func short(l []api.Item) string {
+	return fmt.Sprintf("%d of %.300s", len(l), fmt.Sprint(l))
+}
+
+// right asks the test's own trees.
+func right(t *testing.T, l []api.Item) {
+	t.Helper()
+	if !tree.Right(l) {
+		t.Fatalf("the test's own: %s is not right", short(l))
+	}
+}
+
+// way is Admit or Release.
+type way struct {
+	name  string
+	call  func(l []api.Item, name string, v api.Vec) ([]api.Item, api.Errno)
+	times int
+}
+
+var (
+	in   = way{"Admit", admit.Admit, 1}
+	out  = way{"Release", admit.Release, -1}
+	both = []way{in, out}
+)
+
+// want asks for the tree and the error, that a tree that is told is right (14.2), and that what was handed in stays as it
+// was (R3).
+func (w way) want(t *testing.T, wanted []api.Item, e api.Errno, l []api.Item, name string, a api.Vec) {
+	t.Helper()
+	right(t, l)
+	before := slices.Clone(l)
+	got, err := w.call(l, name, a)
+	if err != e || !slices.Equal(got, wanted) {
+		t.Errorf("%s(%s, %q, %v): %s, %v; want %s, %v", w.name, short(before), name, a, short(got), err, short(wanted), e)
+	}
+	if !tree.Right(got) {
+		t.Errorf("%s(%s, %q, %v): %s, which is not right", w.name, short(before), name, a, short(got))
+	}
+	if !slices.Equal(before, l) {
+		t.Errorf("%s(%s, %q, %v) changed it", w.name, short(before), name, a)
+	}
+}
+
+// wantNot asks for an error, and no tree beside it (R4).
+func (w way) wantNot(t *testing.T, e api.Errno, l []api.Item, name string, a api.Vec) {
+	t.Helper()
+	w.want(t, nil, e, l, name, a)
+}
+
+// wantUp asks that a is more in use (of Release: less), of the first of some names Own, of all of them Sub, of nobody else
+// anything.
+func (w way) wantUp(t *testing.T, up string, l []api.Item, a api.Vec) {
+	t.Helper()
+	wanted := slices.Clone(l)
+	for i, name := range strings.Fields(up) {
+		x := &wanted[place(wanted, name)]
+		x.Sub = more(x.Sub, a, w.times)
+		if i == 0 {
+			x.Own = more(x.Own, a, w.times)
+		}
+	}
+	w.want(t, wanted, api.OK, l, strings.Fields(up)[0], a)
+}
+
+// wantSlowly holds it against the slower way.
+func (w way) wantSlowly(t *testing.T, l []api.Item, name string, a api.Vec) {
+	t.Helper()
+	wanted, e := slowly(l, name, a, w.times)
+	w.want(t, wanted, e, l, name, a)
+}
